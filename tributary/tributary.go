@@ -3,11 +3,17 @@ package tributary
 
 import (
 	"tributary/api"
+	"tributary/ledger"
+	"tributary/shape"
 	"tributary/sketch"
 )
 
 // Store is a tree of nodes.
-type Store struct{}
+type Store struct {
+	tree   shape.Tree
+	width  int
+	living [api.MaxNodes]ledger.Ledger
+}
 
 // Hash tells the hash of a key (P3).
 func Hash(key string) uint32 { return sketch.Hash(key) }
@@ -28,13 +34,53 @@ func Distinct(s api.Sketch) uint64 { return sketch.Distinct(s) }
 func Rank(s api.Sketch, part int) int { return sketch.Rank(s, part) }
 
 // New makes a store (P6).
-func New(tree []int, width int) (*Store, api.Errno) { return nil, api.OK }
+func New(tree []int, width int) (*Store, api.Errno) {
+	t, isTree := shape.Make(tree)
+	if !isTree {
+		return nil, api.ErrTree
+	}
+	if width < 1 || width > api.MaxWidth {
+		return nil, api.ErrArg
+	}
+	return &Store{tree: t, width: width}, api.OK
+}
 
 // Ingest takes an event in (P7).
-func (s *Store) Ingest(leaf int, at int, key string, v int32) api.Errno { return api.OK }
+func (s *Store) Ingest(leaf int, at int, key string, v int32) api.Errno {
+	e := s.leafError(leaf)
+	if e != api.OK {
+		return e
+	}
+	window := s.windowOf(at)
+	if window == noWindow {
+		return api.ErrTime
+	}
+	if len(key) > api.MaxKey {
+		return api.ErrKey
+	}
+	if s.living[leaf].IsFinal(leaf, window) {
+		return api.ErrLate
+	}
+	s.living[leaf].Add(leaf, window, key, v)
+	return api.OK
+}
 
 // Advance lets a leaf's watermark go on (P8).
-func (s *Store) Advance(leaf int, to int) api.Errno { return api.OK }
+func (s *Store) Advance(leaf int, to int) api.Errno {
+	e := s.leafError(leaf)
+	if e != api.OK {
+		return e
+	}
+	end := s.windowEnd(api.MaxWindows - 1)
+	if to < s.living[leaf].Watermark() || to > end {
+		return api.ErrTime
+	}
+	s.living[leaf].SetWatermark(to)
+	for w := 0; w < api.MaxWindows && s.windowEnd(w) <= to; w++ {
+		s.living[leaf].Close(leaf, w)
+	}
+	return api.OK
+}
 
 // Sync stores what a node is (P9).
 func (s *Store) Sync(node int) api.Errno { return api.OK }
@@ -52,11 +98,37 @@ func (s *Store) Deliver(node int, p api.Packet) api.Errno { return api.OK }
 
 // Ask tells what a node knows of some windows (P12).
 func (s *Store) Ask(node int, low int, high int) (api.Answer, api.Errno) {
-	return api.Answer{}, api.OK
+	if !s.has(node) {
+		return api.Answer{}, api.ErrNode
+	}
+	if !areWindows(low, high) {
+		return api.Answer{}, api.ErrArg
+	}
+	a := api.Answer{Sketch: sketch.Empty()}
+	items := s.living[node].Items(low, high)
+	for i := 0; i < len(items); i++ {
+		a.Sketch = sketch.Merge(a.Sketch, items[i].Sketch)
+		if items[i].Final {
+			a.Closed++
+		}
+	}
+	// A node has items of leaves under it alone, and one for each window at most: so none is missing if there are this many.
+	a.Sealed = a.Closed == s.tree.LeavesUnder(node)*(high-low+1)
+	return a, api.OK
 }
 
 // Items lists what a node has (P13).
-func (s *Store) Items(node int) []api.Item { return nil }
+func (s *Store) Items(node int) []api.Item {
+	if !s.has(node) {
+		return nil
+	}
+	return s.living[node].Items(0, api.MaxWindows-1)
+}
 
 // Watermark tells how far a leaf is (P13).
-func (s *Store) Watermark(leaf int) int { return 0 }
+func (s *Store) Watermark(leaf int) int {
+	if s.leafError(leaf) != api.OK {
+		return noWatermark
+	}
+	return s.living[leaf].Watermark()
+}

@@ -1,0 +1,85 @@
+package ledger_test
+
+import (
+	"testing"
+
+	"tributary/api"
+	"tributary/ledger"
+	"tributary/sketch"
+)
+
+// TestOrder lays items of several leaves and windows in every order of steps through them.
+func TestOrder(t *testing.T) {
+	const leaves, windows = 5, 5
+	const all = leaves * windows
+	for step := 1; step < all; step++ {
+		if step%5 == 0 {
+			continue
+		}
+		var l ledger.Ledger
+		for i := range all {
+			at := i * step % all
+			l.Add(at/windows, at%windows, "a", int32(at))
+		}
+		items := l.Items(0, windows-1)
+		if len(items) != all {
+			t.Fatalf("step %d: %d items, want %d", step, len(items), all)
+		}
+		for i, it := range items {
+			want := api.Item{Leaf: i / windows, Window: i % windows, Version: 1, Sketch: sketch.Add(sketch.Empty(), "a", int32(i))}
+			if it != want {
+				t.Errorf("P13: step %d, item %d = %+v, want %+v", step, i, it, want)
+			}
+		}
+	}
+}
+
+func TestItemsOfSomeWindows(t *testing.T) {
+	var l ledger.Ledger
+	for _, x := range [][2]int{{3, 19}, {1, 0}, {3, 7}, {2, 8}, {1, 7}} {
+		l.Close(x[0], x[1])
+	}
+	for _, c := range []struct {
+		low, high int
+		want      [][2]int
+	}{
+		{0, 19, [][2]int{{1, 0}, {1, 7}, {2, 8}, {3, 7}, {3, 19}}},
+		{7, 7, [][2]int{{1, 7}, {3, 7}}},
+		{7, 8, [][2]int{{1, 7}, {2, 8}, {3, 7}}},
+		{8, 18, [][2]int{{2, 8}}},
+		{1, 6, nil},
+		{0, 0, [][2]int{{1, 0}}},
+		{19, 19, [][2]int{{3, 19}}},
+	} {
+		items := l.Items(c.low, c.high)
+		if len(items) != len(c.want) {
+			t.Errorf("Items(%d, %d): %d, want %d", c.low, c.high, len(items), len(c.want))
+			continue
+		}
+		for i, it := range items {
+			want := api.Item{Leaf: c.want[i][0], Window: c.want[i][1], Final: true, Sketch: sketch.Empty()}
+			if it != want {
+				t.Errorf("Items(%d, %d): item %d = %+v, want %+v", c.low, c.high, i, it, want)
+			}
+		}
+	}
+}
+
+// TestFinalOfEachLeaf: what is Final of one leaf and window is nothing to the same window of another leaf.
+func TestFinalOfEachLeaf(t *testing.T) {
+	var l ledger.Ledger
+	l.Add(1, 4, "a", 1)
+	l.Close(2, 4)
+	l.Close(1, 5)
+	for leaf := range 4 {
+		for window := range 8 {
+			want := leaf == 2 && window == 4 || leaf == 1 && window == 5
+			if l.IsFinal(leaf, window) != want {
+				t.Errorf("IsFinal(%d, %d) is not %t", leaf, window, want)
+			}
+		}
+	}
+	if n := len(l.Items(0, 19)); n != 3 {
+		t.Errorf("%d items, want 3: asking made some", n)
+	}
+}
