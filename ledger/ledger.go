@@ -50,6 +50,11 @@ func (l *Ledger) Items(low int, high int) []api.Item {
 	return list
 }
 
+// Copy is the same ledger with room of its own: as put writes into the items where they lie, two ledgers never share them.
+func (l *Ledger) Copy() Ledger {
+	return Ledger{items: l.Items(0, api.MaxWindows-1), watermark: l.watermark}
+}
+
 // item is the item of that leaf and window; if there is none, what a new one begins as.
 func (l *Ledger) item(leaf int, window int) api.Item {
 	i := l.place(leaf, window)

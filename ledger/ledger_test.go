@@ -1,6 +1,7 @@
 package ledger_test
 
 import (
+	"fmt"
 	"testing"
 
 	"tributary/api"
@@ -82,4 +83,36 @@ func TestFinalOfEachLeaf(t *testing.T) {
 	if n := len(l.Items(0, 19)); n != 3 {
 		t.Errorf("%d items, want 3: asking made some", n)
 	}
+}
+
+// TestCopyIsApart: what is laid into a ledger, at any place, is nothing to one that was copied from it, or that it was copied from.
+func TestCopyIsApart(t *testing.T) {
+	for _, leaf := range []int{0, 1, 2, 3, 4} {
+		var first ledger.Ledger
+		first.Add(1, 0, "a", 1)
+		first.Add(3, 19, "a", 2)
+		first.Close(1, 7) // the room that append made has some to spare now
+		first.SetWatermark(50)
+		want := fmt.Sprintf("%+v", first)
+		second := first.Copy()
+		if got := fmt.Sprintf("%+v", second); got != want {
+			t.Errorf("a copy is %s, want %s", got, want)
+		}
+		change(&second, leaf)
+		if got := fmt.Sprintf("%+v", first); got != want {
+			t.Errorf("a copy that was changed at leaf %d changed what it was copied from to %s, from %s", leaf, got, want)
+		}
+		third := first.Copy()
+		change(&first, leaf)
+		if got := fmt.Sprintf("%+v", third); got != want {
+			t.Errorf("what was changed at leaf %d changed its copy to %s, from %s", leaf, got, want)
+		}
+	}
+}
+
+func change(l *ledger.Ledger, leaf int) {
+	l.Add(leaf, 5, "b", 100)
+	l.Close(leaf, 0)
+	l.Close(leaf, 19)
+	l.SetWatermark(l.Watermark() + 1)
 }

@@ -3,6 +3,9 @@ package shape
 
 import "tributary/api"
 
+// Root is the node that all others are under.
+const Root = 0
+
 const noParent = -1
 
 // Tree is a tree of nodes. One without nodes is what there is where no tree was made.
@@ -28,7 +31,7 @@ func Make(parents []int) (Tree, bool) {
 
 // mayBeParent tells whether a node may have that parent. As each stands ahead of its node, every way up ends.
 func mayBeParent(node int, parent int) bool {
-	if node == 0 {
+	if node == Root {
 		return parent == noParent
 	}
 	return parent >= 0 && parent < node

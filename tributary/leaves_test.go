@@ -87,6 +87,8 @@ func told(s *tributary.Store) string {
 			rest, f := s.Ask(node, w, api.MaxWindows-1)
 			fmt.Fprintln(&b, one, e, rest, f)
 		}
+		sent, e := s.Send(node, 0, api.MaxWindows-1)
+		fmt.Fprintf(&b, "%+v %d\n", sent, e)
 	}
 	return b.String()
 }
@@ -180,6 +182,9 @@ func TestCallsOnNoStore(t *testing.T) {
 	s, _ := tributary.New(nil, 10)
 	wantErrno(t, "P1: Ingest", s.Ingest(0, 0, "a", 1), api.ErrNode)
 	wantErrno(t, "P1: Advance", s.Advance(0, 0), api.ErrNode)
+	wantErrno(t, "P1: Sync", s.Sync(0), api.ErrNode)
+	wantErrno(t, "P1: Crash", s.Crash(0), api.ErrNode)
+	wantNotSent(t, s, 0, 0, 0, api.ErrNode)
 	a, e := s.Ask(0, 0, 0)
 	if a != (api.Answer{}) || e != api.ErrNode || s.Items(0) != nil || s.Watermark(0) != -1 {
 		t.Errorf("P1: Ask = %+v, %d; Items = %v; Watermark = %d", a, e, s.Items(0), s.Watermark(0))
@@ -526,9 +531,15 @@ func TestStoresAreApart(t *testing.T) {
 	fresh := told(b)
 	ingest(t, a, 1, 5, "a", 1)
 	advance(t, a, 1, 50)
+	syncNode(t, a, 1)
 	if told(b) != fresh {
 		t.Error("P2: one store changed another")
 	}
 	ingest(t, b, 1, 5, "a", 2)
+	crashNode(t, a, 1)
 	wantItems(t, b, 1, itemOf(1, 0, false, 2))
+	crashNode(t, b, 1)
+	if told(b) != fresh {
+		t.Error("P2: one store stored something in another")
+	}
 }

@@ -1,8 +1,9 @@
-// A model of a store that keeps all that ever happened, and works each answer out from that, as the document words it.
+// A model of a store that keeps all that happened and was not forgotten, and works each answer out from that, as the document words it.
 package tributary_test
 
 import (
 	"fmt"
+	"slices"
 	"testing"
 
 	"tributary/api"
@@ -15,11 +16,17 @@ type event struct {
 	v        int32
 }
 
+// past is what happened at one leaf.
+type past struct {
+	events    []event
+	watermark int
+}
+
 type model struct {
-	tree       []int
-	width      int
-	events     []event
-	watermarks map[int]int
+	tree   []int
+	width  int
+	living map[int]past
+	stored map[int]past
 }
 
 func (m *model) isLeaf(node int) bool {
@@ -41,8 +48,8 @@ func (m *model) leafError(node int) api.Errno {
 	return api.OK
 }
 
-func (m *model) isClosed(leaf int, window int) bool {
-	return m.width*window+m.width <= m.watermarks[leaf]
+func (m *model) isClosed(p past, window int) bool {
+	return m.width*window+m.width <= p.watermark
 }
 
 func (m *model) ingest(e event) api.Errno {
@@ -54,10 +61,11 @@ func (m *model) ingest(e event) api.Errno {
 		return api.ErrTime
 	case len(e.key) > 20:
 		return api.ErrKey
-	case m.isClosed(e.leaf, e.at/m.width):
+	case m.isClosed(m.living[e.leaf], e.at/m.width):
 		return api.ErrLate
 	}
-	m.events = append(m.events, e)
+	p := m.living[e.leaf]
+	m.living[e.leaf] = past{append(slices.Clone(p.events), e), p.watermark}
 	return api.OK
 }
 
@@ -66,29 +74,57 @@ func (m *model) advance(leaf int, to int) api.Errno {
 	switch {
 	case leafError != api.OK:
 		return leafError
-	case to < m.watermarks[leaf] || to > 20*m.width:
+	case to < m.living[leaf].watermark || to > 20*m.width:
 		return api.ErrTime
 	}
-	m.watermarks[leaf] = to
+	m.living[leaf] = past{m.living[leaf].events, to}
 	return api.OK
+}
+
+func (m *model) sync(node int) api.Errno {
+	if m.leafError(node) == api.ErrNode {
+		return api.ErrNode
+	}
+	m.stored[node] = m.living[node]
+	return api.OK
+}
+
+func (m *model) crash(node int) api.Errno {
+	if m.leafError(node) == api.ErrNode {
+		return api.ErrNode
+	}
+	m.living[node] = m.stored[node]
+	return api.OK
+}
+
+func (m *model) send(node int, low int, high int) (api.Packet, api.Errno) {
+	switch {
+	case m.leafError(node) == api.ErrNode:
+		return api.Packet{}, api.ErrNode
+	case node == 0:
+		return api.Packet{}, api.ErrRoot
+	case low < 0 || high >= 20 || low > high:
+		return api.Packet{}, api.ErrArg
+	}
+	items := m.items(node, m.stored[node])
+	outside := func(it api.Item) bool { return it.Window < low || it.Window > high }
+	return api.Packet{From: node, Items: slices.DeleteFunc(items, outside)}, api.OK
 }
 
 func (m *model) watermark(leaf int) int {
 	if m.leafError(leaf) != api.OK {
 		return -1
 	}
-	return m.watermarks[leaf]
+	return m.living[leaf].watermark
 }
 
-func (m *model) items(node int) []api.Item {
-	if m.leafError(node) != api.OK {
-		return nil
-	}
+// items are those that a past makes: none, where nothing happened.
+func (m *model) items(leaf int, p past) []api.Item {
 	var list []api.Item
 	for w := range 20 {
-		it := api.Item{Leaf: node, Window: w, Final: m.isClosed(node, w), Sketch: empty}
-		for _, e := range m.events {
-			if e.leaf == node && e.at/m.width == w {
+		it := api.Item{Leaf: leaf, Window: w, Final: m.isClosed(p, w), Sketch: empty}
+		for _, e := range p.events {
+			if e.at/m.width == w {
 				it.Version++
 				it.Sketch = wantMerge(it.Sketch, wantOne(e.key, e.v))
 			}
@@ -108,7 +144,7 @@ func (m *model) ask(node int, low int, high int) (api.Answer, api.Errno) {
 		return api.Answer{}, api.ErrArg
 	}
 	a := api.Answer{Sketch: empty}
-	for _, it := range m.items(node) {
+	for _, it := range m.items(node, m.living[node]) {
 		if low <= it.Window && it.Window <= high {
 			a.Sketch = wantMerge(it.Sketch, a.Sketch)
 			if it.Final {
@@ -116,7 +152,7 @@ func (m *model) ask(node int, low int, high int) (api.Answer, api.Errno) {
 			}
 		}
 	}
-	a.Sealed = m.isLeaf(node) && m.isClosed(node, high)
+	a.Sealed = m.isLeaf(node) && m.isClosed(m.living[node], high)
 	return a, api.OK
 }
 
@@ -139,14 +175,14 @@ func TestAnyCalls(t *testing.T) {
 	n := numbers{6}
 	widths := []int{1, 2, 3, 10, 999, 1000}
 	for range 300 {
-		m := model{tree: n.anyTree(), width: widths[n.next()%6], watermarks: map[int]int{}}
+		m := model{tree: n.anyTree(), width: widths[n.next()%6], living: map[int]past{}, stored: map[int]past{}}
 		s, e := tributary.New(m.tree, m.width)
 		if len(m.tree) > api.MaxNodes {
 			wantErrno(t, "P6: too many nodes", e, api.ErrTree)
 			continue
 		}
 		var calls []string
-		for range 60 {
+		for range 80 {
 			call := anyCall(t, &n, &m, s)
 			calls = append(calls, call)
 			compare(t, &n, &m, s)
@@ -160,11 +196,18 @@ func TestAnyCalls(t *testing.T) {
 // anyCall makes a call that may change something, to the store and to the model.
 func anyCall(t *testing.T, n *numbers, m *model, s *tributary.Store) string {
 	leaf := n.near(0, len(m.tree)-1)
-	if n.next()%4 == 0 {
+	switch n.next() % 16 {
+	case 0, 1:
+		wantErrno(t, "P9: Sync", s.Sync(leaf), m.sync(leaf))
+		return fmt.Sprintf("Sync(%d)", leaf)
+	case 2:
+		wantErrno(t, "P9: Crash", s.Crash(leaf), m.crash(leaf))
+		return fmt.Sprintf("Crash(%d)", leaf)
+	case 3, 4, 5, 6:
 		to := n.near(0, 20*m.width)
 		if n.next()%8 != 0 {
 			// Most steps are short, so that not all windows are closed at once.
-			to = m.watermarks[leaf] + n.near(0, m.width*3/2)
+			to = m.living[leaf].watermark + n.near(0, m.width*3/2)
 		}
 		call := fmt.Sprintf("Advance(%d, %d)", leaf, to)
 		wantErrno(t, "P8: "+call, s.Advance(leaf, to), m.advance(leaf, to))
@@ -182,7 +225,7 @@ func anyCall(t *testing.T, n *numbers, m *model, s *tributary.Store) string {
 func compare(t *testing.T, n *numbers, m *model, s *tributary.Store) {
 	t.Helper()
 	for node := -1; node <= len(m.tree); node++ {
-		wantItems(t, s, node, m.items(node)...)
+		wantItems(t, s, node, m.items(node, m.living[node])...)
 		if got, want := s.Watermark(node), m.watermark(node); got != want {
 			t.Errorf("P13: Watermark(%d) = %d, want %d", node, got, want)
 		}
@@ -191,6 +234,11 @@ func compare(t *testing.T, n *numbers, m *model, s *tributary.Store) {
 		want, f := m.ask(node, low, high)
 		if got != want || e != f {
 			t.Errorf("P12: Ask(%d, %d, %d) = %+v, %d, want %+v, %d", node, low, high, got, e, want, f)
+		}
+		packet, e := s.Send(node, low, high)
+		wantPacket, f := m.send(node, low, high)
+		if fmt.Sprintf("%+v", packet) != fmt.Sprintf("%+v", wantPacket) || e != f {
+			t.Errorf("P10: Send(%d, %d, %d) = %+v, %d, want %+v, %d", node, low, high, packet, e, wantPacket, f)
 		}
 	}
 }

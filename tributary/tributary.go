@@ -13,6 +13,7 @@ type Store struct {
 	tree   shape.Tree
 	width  int
 	living [api.MaxNodes]ledger.Ledger
+	stored [api.MaxNodes]ledger.Ledger
 }
 
 // Hash tells the hash of a key (P3).
@@ -83,14 +84,35 @@ func (s *Store) Advance(leaf int, to int) api.Errno {
 }
 
 // Sync stores what a node is (P9).
-func (s *Store) Sync(node int) api.Errno { return api.OK }
+func (s *Store) Sync(node int) api.Errno {
+	if !s.has(node) {
+		return api.ErrNode
+	}
+	s.stored[node] = s.living[node].Copy()
+	return api.OK
+}
 
 // Crash lets a node forget what is not stored (P9).
-func (s *Store) Crash(node int) api.Errno { return api.OK }
+func (s *Store) Crash(node int) api.Errno {
+	if !s.has(node) {
+		return api.ErrNode
+	}
+	s.living[node] = s.stored[node].Copy()
+	return api.OK
+}
 
 // Send is what a node has stored of some windows (P10).
 func (s *Store) Send(node int, low int, high int) (api.Packet, api.Errno) {
-	return api.Packet{}, api.OK
+	if !s.has(node) {
+		return api.Packet{}, api.ErrNode
+	}
+	if node == shape.Root {
+		return api.Packet{}, api.ErrRoot
+	}
+	if !areWindows(low, high) {
+		return api.Packet{}, api.ErrArg
+	}
+	return api.Packet{From: node, Items: s.stored[node].Items(low, high)}, api.OK
 }
 
 // Deliver brings a packet to a node (P11).
