@@ -39,6 +39,24 @@ func (l *Ledger) Close(leaf int, window int) {
 	l.put(it)
 }
 
+// Take lays an item in the place of the one of its leaf and window, if it is newer than that, or if there is none.
+func (l *Ledger) Take(it api.Item) {
+	place := l.place(it.Leaf, it.Window)
+	isThere := l.isAt(place, it.Leaf, it.Window)
+	if isThere && !isNewer(it, l.items[place]) {
+		return
+	}
+	l.put(it)
+}
+
+// isNewer tells whether an item is newer than another one of the same leaf and window.
+func isNewer(it api.Item, other api.Item) bool {
+	if it.Version != other.Version {
+		return it.Version > other.Version
+	}
+	return it.Final && !other.Final
+}
+
 // Items lists the items of the windows from low to high.
 func (l *Ledger) Items(low int, high int) []api.Item {
 	var list []api.Item
@@ -79,7 +97,7 @@ func (l *Ledger) put(it api.Item) {
 // place is where the item of that leaf and window stands, or would stand.
 func (l *Ledger) place(leaf int, window int) int {
 	place := 0
-	for place < len(l.items) && isAhead(l.items[place], leaf, window) {
+	for place < len(l.items) && IsAhead(l.items[place], leaf, window) {
 		place++
 	}
 	return place
@@ -90,7 +108,7 @@ func (l *Ledger) isAt(place int, leaf int, window int) bool {
 	return place < len(l.items) && l.items[place].Leaf == leaf && l.items[place].Window == window
 }
 
-// isAhead tells whether an item stands ahead of that leaf and window.
-func isAhead(it api.Item, leaf int, window int) bool {
+// IsAhead tells whether an item stands ahead of that leaf and window.
+func IsAhead(it api.Item, leaf int, window int) bool {
 	return it.Leaf < leaf || it.Leaf == leaf && it.Window < window
 }

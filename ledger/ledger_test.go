@@ -35,6 +35,54 @@ func TestOrder(t *testing.T) {
 	}
 }
 
+// TestTakeInAnyOrder: items that are told find their places among those that are there, and the newer of two stays.
+func TestTakeInAnyOrder(t *testing.T) {
+	const leaves, windows = 3, 7
+	const all = leaves * windows
+	for _, step := range []int{1, 2, 4, 5, 8, 10, 20} {
+		var l ledger.Ledger
+		for i := range all * 3 {
+			at := i * step % all
+			// Of three rounds the second is the newest, and the third one older than the first.
+			version := []int{1, 2, 0}[i/all]
+			l.Take(api.Item{Leaf: at / windows, Window: at % windows, Version: version})
+			l.Take(api.Item{Leaf: at / windows, Window: at % windows, Version: version, Final: at%2 == 0})
+		}
+		items := l.Items(0, windows-1)
+		if len(items) != all {
+			t.Fatalf("step %d: %d items, want %d", step, len(items), all)
+		}
+		for i, it := range items {
+			want := api.Item{Leaf: i / windows, Window: i % windows, Version: 2, Final: i%2 == 0}
+			if it != want {
+				t.Errorf("P11: step %d, item %d = %+v, want %+v", step, i, it, want)
+			}
+		}
+	}
+}
+
+// TestTakeLeavesTheWatermark: what is told of others is nothing to it.
+func TestTakeLeavesTheWatermark(t *testing.T) {
+	var l ledger.Ledger
+	l.SetWatermark(30)
+	l.Take(api.Item{Leaf: 1, Window: 9, Version: 1, Final: true})
+	if l.Watermark() != 30 {
+		t.Errorf("the watermark is %d, want 30", l.Watermark())
+	}
+}
+
+// TestIsAhead: by leaf and, in one leaf, by window; an item is not ahead of its own place.
+func TestIsAhead(t *testing.T) {
+	for a := range 25 {
+		for b := range 25 {
+			it := api.Item{Leaf: a / 5, Window: a % 5}
+			if ledger.IsAhead(it, b/5, b%5) != (a < b) {
+				t.Errorf("IsAhead(%d/%d, %d, %d) is not %t", it.Leaf, it.Window, b/5, b%5, a < b)
+			}
+		}
+	}
+}
+
 func TestItemsOfSomeWindows(t *testing.T) {
 	var l ledger.Ledger
 	for _, x := range [][2]int{{3, 19}, {1, 0}, {3, 7}, {2, 8}, {1, 7}} {
@@ -112,6 +160,8 @@ func TestCopyIsApart(t *testing.T) {
 
 func change(l *ledger.Ledger, leaf int) {
 	l.Add(leaf, 5, "b", 100)
+	l.Take(api.Item{Leaf: leaf, Window: 6, Version: 9})
+	l.Take(api.Item{Leaf: leaf, Window: 5, Version: 9})
 	l.Close(leaf, 0)
 	l.Close(leaf, 19)
 	l.SetWatermark(l.Watermark() + 1)

@@ -55,6 +55,11 @@ func (t *Tree) IsLeaf(node int) bool {
 	return true
 }
 
+// IsParent tells whether there is such a node, and that is its parent. The root has none.
+func (t *Tree) IsParent(parent int, node int) bool {
+	return node != Root && t.Has(node) && t.parents[node] == parent
+}
+
 // IsUnder tells whether a node is under another one, or is that one.
 func (t *Tree) IsUnder(node int, above int) bool {
 	for t.Has(node) {

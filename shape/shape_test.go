@@ -52,6 +52,10 @@ func TestShapes(t *testing.T) {
 				if tree.IsUnder(below, node) != want {
 					t.Errorf("%v: IsUnder(%d, %d) is not %t", c.parents, below, node, want)
 				}
+				isParent := below > 0 && below < len(c.parents) && c.parents[below] == node
+				if tree.IsParent(node, below) != isParent {
+					t.Errorf("%v: IsParent(%d, %d) is not %t", c.parents, node, below, isParent)
+				}
 				if want && has(c.leaves, below) {
 					leaves++
 				}

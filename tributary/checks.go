@@ -1,6 +1,9 @@
 package tributary
 
-import "tributary/api"
+import (
+	"tributary/api"
+	"tributary/ledger"
+)
 
 const (
 	noWindow    = -1
@@ -44,4 +47,31 @@ func (s *Store) windowOf(at int) int {
 // areWindows tells whether low to high are windows that there are, one at least.
 func areWindows(low int, high int) bool {
 	return low >= 0 && low <= high && high < api.MaxWindows
+}
+
+// mayCome tells whether a packet may come to a node: from a child of it, with items that this child may have, in their order.
+func (s *Store) mayCome(node int, p api.Packet) bool {
+	if !s.tree.IsParent(node, p.From) {
+		return false
+	}
+	for i := 0; i < len(p.Items); i++ {
+		if !s.mayHave(p.From, p.Items[i]) {
+			return false
+		}
+		if i > 0 && !ledger.IsAhead(p.Items[i-1], p.Items[i].Leaf, p.Items[i].Window) {
+			return false
+		}
+	}
+	return true
+}
+
+// mayHave tells whether a node may have an item: nothing is asked of its sketch.
+func (s *Store) mayHave(node int, it api.Item) bool {
+	if !s.tree.IsLeaf(it.Leaf) {
+		return false
+	}
+	if !s.tree.IsUnder(it.Leaf, node) {
+		return false
+	}
+	return it.Version >= 0 && areWindows(it.Window, it.Window)
 }

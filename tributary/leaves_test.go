@@ -185,6 +185,7 @@ func TestCallsOnNoStore(t *testing.T) {
 	wantErrno(t, "P1: Sync", s.Sync(0), api.ErrNode)
 	wantErrno(t, "P1: Crash", s.Crash(0), api.ErrNode)
 	wantNotSent(t, s, 0, 0, 0, api.ErrNode)
+	wantErrno(t, "P1: Deliver", s.Deliver(0, packet(1, itemOf(1, 0, true))), api.ErrNode)
 	a, e := s.Ask(0, 0, 0)
 	if a != (api.Answer{}) || e != api.ErrNode || s.Items(0) != nil || s.Watermark(0) != -1 {
 		t.Errorf("P1: Ask = %+v, %d; Items = %v; Watermark = %d", a, e, s.Items(0), s.Watermark(0))

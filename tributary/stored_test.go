@@ -385,7 +385,7 @@ func TestSyncOfOneNode(t *testing.T) {
 	}
 }
 
-// TestSyncAndCrashOfInnerNodes: they have nothing that could be stored or forgotten, and what is under them stays as it is.
+// TestSyncAndCrashOfInnerNodes: where nothing was delivered to them, there is nothing to be stored or forgotten, and what is under them stays as it is.
 func TestSyncAndCrashOfInnerNodes(t *testing.T) {
 	s := stirred(t)
 	for _, node := range []int{0, 1} {

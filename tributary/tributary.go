@@ -116,7 +116,19 @@ func (s *Store) Send(node int, low int, high int) (api.Packet, api.Errno) {
 }
 
 // Deliver brings a packet to a node (P11).
-func (s *Store) Deliver(node int, p api.Packet) api.Errno { return api.OK }
+func (s *Store) Deliver(node int, p api.Packet) api.Errno {
+	if !s.has(node) {
+		return api.ErrNode
+	}
+	// All of it is looked at ahead of the first item that is taken: of a packet that may not be, nothing is.
+	if !s.mayCome(node, p) {
+		return api.ErrPacket
+	}
+	for i := 0; i < len(p.Items); i++ {
+		s.living[node].Take(p.Items[i])
+	}
+	return api.OK
+}
 
 // Ask tells what a node knows of some windows (P12).
 func (s *Store) Ask(node int, low int, high int) (api.Answer, api.Errno) {
